@@ -1,0 +1,1 @@
+"""Wornpages: a store on pages that wear out."""
