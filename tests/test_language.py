@@ -1,4 +1,4 @@
-"""The part of Python to which the package's own files keep, rule by rule."""
+"""The part of Python to which the package's own files keep: the rules that are easily seen, not all of them."""
 
 import ast
 import builtins
