@@ -1,5 +1,7 @@
 """What the tests of several points share."""
 
+import inspect
+
 MILLION = 1000000
 
 # Big enough that Python refuses to write it out as figures.
@@ -28,3 +30,31 @@ def refusal_of(ask, *values):
     except ValueError as refusal:
         return refusal
     return None
+
+
+def deeds_of(chip, ask, *values):
+    """The deeds that an ask does, refused or not."""
+    before = len(chip.deeds())
+    refusal_of(ask, *values)
+    return chip.deeds()[before:]
+
+
+def fail_block(chip, block):
+    """Let a block whose ill says that it does no more deeds fail, without a page being written."""
+    refusal_of(chip.wipe, block)
+
+
+def arguments_of(ask):
+    """The names of the arguments of a function or class."""
+    return list(inspect.signature(ask).parameters)
+
+
+def truths_of(rule, one, other, pages, now):
+    """What a rule answers for two tallies, both ways."""
+    return (rule.goes_ahead(one, other, pages, now), rule.goes_ahead(other, one, pages, now))
+
+
+def drawn_tallies(draw, count, pages, top):
+    """So many tallies by a source of chance, in rising order of their blocks, all below top but the blocks and live."""
+    blocks = sorted(draw.sample(range(16), count))
+    return [(block, draw.randint(0, pages), draw.randrange(top), draw.randrange(top)) for block in blocks]

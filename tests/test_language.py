@@ -134,6 +134,29 @@ class Language(unittest.TestCase):
         for path, tree in self.trees.items():
             self.assertEqual([name for name in bound_in(tree) if name in dir(builtins)], [], path.name)
 
+    def test_no_local_is_called_like_a_class_or_an_import(self):
+        for path, tree in self.trees.items():
+            top = [node.name for node in tree.body if isinstance(node, ast.ClassDef)]
+            for node in tree.body:
+                if isinstance(node, ast.ImportFrom):
+                    top += [alias.asname or alias.name for alias in node.names]
+            self.assertEqual([name for name in bound_in(tree) if name in top], [], path.name)
+
+    def test_keywords_at_pythons_own(self):
+        allowed = {"sorted": {"key", "reverse"}, "min": {"key", "default"}, "max": {"key", "default"},
+                   "sum": {"start"}, "enumerate": {"start"}, "zip": {"strict"}}
+        for where, node in self.each_node(ast.Call):
+            own = node.func.id if isinstance(node.func, ast.Name) else getattr(node.func, "attr", "")
+            if own in ALLOWED_BUILTINS | ALLOWED_METHODS:
+                self.assertLessEqual({keyword.arg for keyword in node.keywords}, allowed.get(own, set()), where)
+
+    def test_what_is_walked_at_once_is_not_kept(self):
+        walked = ("zip", "enumerate", "reversed", "range", "items", "keys", "values")
+        for where, node in self.each_node((ast.Assign, ast.Return)):
+            if isinstance(node.value, ast.Call):
+                func = node.value.func
+                self.assertNotIn(getattr(func, "id", getattr(func, "attr", "")), walked, where)
+
     def test_names_of_pythons_own(self):
         for where, node in self.each_node(ast.Name):
             if node.id in dir(builtins):

@@ -3,7 +3,7 @@
 import unittest
 
 from tests.helper import HUGE, NOT_WHOLE
-from wornpages.words import is_shape, is_whole, is_within
+from wornpages.words import is_shape, is_value, is_whole, is_within
 
 
 class IsWhole(unittest.TestCase):
@@ -71,6 +71,14 @@ class IsShape(unittest.TestCase):
             (2, 1, True), (16, 16, True), (1, 1, False), (17, 16, False), (2, 0, False), (16, 17, False),
         ]:
             self.assertIs(is_shape(blocks, pages), answer)
+
+
+class IsValue(unittest.TestCase):
+    def test_bounds(self):
+        for thing, answer in [(0, True), (10 ** 30 - 1, True), (-1, False), (10 ** 30, False), (HUGE, False)]:
+            self.assertIs(is_value(thing), answer)
+        for thing in NOT_WHOLE:
+            self.assertIs(is_value(thing), False, repr(thing))
 
 
 if __name__ == "__main__":

@@ -18,3 +18,8 @@ def is_within(thing, low, high):
 def is_shape(blocks, pages):
     """Whether a chip, and so the terms for one, may have so many blocks of so many pages."""
     return is_within(blocks, 2, 16) and is_within(pages, 1, 16)
+
+
+def is_value(thing):
+    """Whether a thing is a value that a store keeps."""
+    return is_within(thing, 0, 10 ** 30 - 1)
