@@ -237,6 +237,41 @@ class Language(unittest.TestCase):
                 beside = [side for side in sides if isinstance(side, ast.Constant)]
                 self.assertTrue(any(side.value is None or isinstance(side.value, bool) for side in beside), where)
 
+    def test_sets_are_neither_kept_nor_walked(self):
+        fit = []
+        for where, node in self.each_node((ast.Call, ast.Compare)):
+            if isinstance(node, ast.Call) and getattr(node.func, "id", "") in ("sorted", "len") and not node.keywords:
+                fit += node.args
+            elif isinstance(node, ast.Compare) and isinstance(node.ops[0], (ast.In, ast.NotIn, ast.Eq, ast.NotEq)):
+                fit += [node.left] + node.comparators
+        for where, node in self.each_node((ast.Call, ast.Set)):
+            if isinstance(node, ast.Set) or getattr(node.func, "id", "") in ("set", "frozenset"):
+                self.assertIn(node, fit, where)
+
+    def test_classes_are_only_called_drawn_from_or_taken(self):
+        own = {node.name for where, node in self.each_node(ast.ClassDef)}
+        fit = []
+        for where, node in self.each_node((ast.Call, ast.ClassDef, ast.ExceptHandler, ast.Attribute)):
+            if isinstance(node, ast.Call):
+                fit += [node.func] + (node.args[1:] if getattr(node.func, "id", "") == "isinstance" else [])
+            elif isinstance(node, ast.ClassDef):
+                fit += node.bases
+            elif isinstance(node, ast.ExceptHandler):
+                fit += node.type.elts if isinstance(node.type, ast.Tuple) else [node.type]
+            elif node.attr == "__init__":
+                fit.append(node.value)
+        for where, node in self.each_node(ast.Name):
+            if node.id in own:
+                self.assertIn(node, fit, where)
+
+    def test_errors_are_made_on_the_spot_and_taken_by_name(self):
+        own = {node.name for where, node in self.each_node(ast.ClassDef)}
+        for where, node in self.each_node(ast.Raise):
+            self.assertIsInstance(node.exc, ast.Call, where)
+        for where, node in self.each_node(ast.ExceptHandler):
+            self.assertIsInstance(node.type, ast.Name, where)
+            self.assertIn(node.type.id, own | {"KeyError", "ZeroDivisionError", "StopIteration"}, where)
+
     def test_methods_that_are_called(self):
         for where, node in self.each_node(ast.Call):
             if isinstance(node.func, ast.Attribute):

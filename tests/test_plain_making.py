@@ -2,7 +2,7 @@
 
 import unittest
 
-from tests.helper import arguments_of, fail_block, refusal_of, state_of
+from tests.helper import arguments_of, fail_block, refusal_of, state_of, wiped_chip
 from wornpages.book import Book
 from wornpages.chip import Chip
 from wornpages.errors import BlockFailed, NoRoom, NoTerms
@@ -82,13 +82,7 @@ class Making(unittest.TestCase):
 class Blocks(unittest.TestCase):
     def worn_store(self, wipes, failed=()):
         """A store with three pages a block, on a chip whose blocks were wiped so often, or have failed, before."""
-        chip = Chip(len(wipes), 3, 100, [(block, wipes[block]) for block in failed])
-        for block, times in enumerate(wipes):
-            for time in range(times):
-                chip.wipe(block)
-        for block in failed:
-            fail_block(chip, block)
-        return Plain(chip, Terms(len(wipes), 3, 64, 1))
+        return Plain(wiped_chip(3, wipes, failed), Terms(len(wipes), 3, 64, 1))
 
     def test_a_new_store(self):
         for blocks in range(2, 17):
