@@ -5,8 +5,9 @@ import types
 
 from wornpages.chip import Chip
 from wornpages.coming import book_of
+from wornpages.desk import Desk
 from wornpages.errors import Full, PowerGone, WornError
-from wornpages.marks import ROLL
+from wornpages.marks import ROLL, mark_of, name_of, stamp_of
 from wornpages.rules import Eldest, Fewest, Follow, Order, Rule, Turned, Weighed, Window, Worth
 from wornpages.terms import Terms
 
@@ -110,6 +111,55 @@ def two_live_blocks(kind, rule, ill=0, ills=None):
     return store
 
 
+def laid(blocks, pages, rows):
+    """A chip on which pages were laid by hand: (page, stamp, name, value)."""
+    chip = Chip(blocks, pages)
+    for page, stamp, name, value in rows:
+        chip.put(page, (mark_of(stamp, name), value))
+    return chip
+
+
+def book_by_the_words(chip):
+    """What point 71 says of a chip, found in another way than by a book."""
+    pages = range(chip.blocks * chip.pages)
+    borne = [(page,) + chip.read(page) for page in pages if chip.read(page) is not None]
+    newest = {}
+    for page, mark, value in borne:
+        name = name_of(mark)
+        if name not in newest or stamp_of(mark) > newest[name][0]:
+            newest[name] = (stamp_of(mark), page, value)
+    roll = newest.get(ROLL)
+    where = {name: page for name, (stamp, page, value) in newest.items()
+             if name == ROLL or roll is None or stamp > roll[0] or roll[2] >> name & 1}
+    blocks = range(chip.blocks)
+    stamps = {page: stamp_of(mark) for page, mark, value in borne}
+    return (
+        sorted(where.items()),
+        [sum(page // chip.pages == block for page in where.values()) for block in blocks],
+        [sum(page // chip.pages == block for page in stamps) for block in blocks],
+        [stamps.get(block * chip.pages, 0) for block in blocks],
+        max(stamps.values(), default=0) + 1,
+    )
+
+
+def drawn_chip(draw):
+    """A chip that lies well, with pages drawn by chance: no store need have laid them so."""
+    blocks = draw.randint(2, 5)
+    pages = draw.randint(1, 5)
+    chip = Chip(blocks, pages)
+    places = [block * pages + page for block in range(blocks) for page in range(draw.randint(0, pages))]
+    first = draw.choice([0, 10 ** 38])
+    stamps = [first + stamp for stamp in sorted(draw.sample(range(1, 100), len(places)))]
+    # The stamps rise within each block; otherwise the blocks are mingled.
+    rows = {block: [page for page in places if page // pages == block] for block in range(blocks)}
+    for stamp in stamps:
+        page = rows[draw.choice([block for block in rows if rows[block]])].pop(0)
+        name = draw.choice([ROLL] + list(range(6)) + [63])
+        value = draw.getrandbits(7) + (draw.getrandbits(1) << 63) if name == ROLL else draw.randrange(10 ** 30)
+        chip.put(page, (mark_of(stamp, name), value))
+    return chip
+
+
 def reads_of(store):
     """What each sheet of a store reads as."""
     return [store.read(sheet) for sheet in range(store.terms.sheets)]
@@ -159,6 +209,14 @@ class Watched(Chip):
             self.look()
 
 
+def desk_told(*rows):
+    """A desk that was told these rows, and answered them all."""
+    desk = Desk()
+    for row in rows:
+        desk.say(row)
+    return desk
+
+
 def drawn_rule(draw):
     """A rule of any sort by a source of chance."""
     plain = [Rule, Fewest, Eldest, Worth]
@@ -180,6 +238,15 @@ def drawn_terms(draw, ills=(0, 1, 2), spreads=(1, 1, 2, 5)):
         if most >= 1:
             share = draw.choice([most, most, draw.randint(1, most)])
             return Terms(blocks, pages, share + draw.randint(0, 2), share, ill, draw.choice(spreads))
+
+
+def drawn_race(draw):
+    """The blocks, the pages and the row of a race by a source of chance, often with rows as long as they may be."""
+    blocks, pages = draw.choice([(2, 3), (3, 2), (3, 3), (4, 1), (4, 2), (4, 3)])
+    closed = (blocks - 1) * pages
+    sheets = draw.sample(range(64), draw.randint(1, closed - 2))
+    length = draw.choice([closed + 6, closed + 6, draw.randint(0, closed + 6)])
+    return blocks, pages, [draw.choice(sheets) for turn in range(length)]
 
 
 class Usage:

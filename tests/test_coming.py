@@ -3,8 +3,8 @@
 import random
 import unittest
 
-from tests.helper import (AskChecks, Usage, arguments_of, deeds_of, drawn_terms, fail_block, reads_of, refusal_of,
-                          state_of)
+from tests.helper import (AskChecks, Usage, arguments_of, book_by_the_words, deeds_of, drawn_chip, drawn_terms,
+                          fail_block, laid, reads_of, refusal_of, state_of)
 from wornpages.book import Book
 from wornpages.chip import Chip
 from wornpages.coming import book_of, come_up
@@ -16,55 +16,6 @@ from wornpages.rules import Eldest, Fewest, Follow, Order, Rule, Turned, Window,
 from wornpages.store import Store
 from wornpages.sure import Sure
 from wornpages.terms import Terms
-
-
-def laid(blocks, pages, rows):
-    """A chip on which pages were laid by hand: (page, stamp, name, value)."""
-    chip = Chip(blocks, pages)
-    for page, stamp, name, value in rows:
-        chip.put(page, (mark_of(stamp, name), value))
-    return chip
-
-
-def book_by_the_words(chip):
-    """What point 71 says of a chip, found in another way than by a book."""
-    pages = range(chip.blocks * chip.pages)
-    borne = [(page,) + chip.read(page) for page in pages if chip.read(page) is not None]
-    newest = {}
-    for page, mark, value in borne:
-        name = name_of(mark)
-        if name not in newest or stamp_of(mark) > newest[name][0]:
-            newest[name] = (stamp_of(mark), page, value)
-    roll = newest.get(ROLL)
-    where = {name: page for name, (stamp, page, value) in newest.items()
-             if name == ROLL or roll is None or stamp > roll[0] or roll[2] >> name & 1}
-    blocks = range(chip.blocks)
-    stamps = {page: stamp_of(mark) for page, mark, value in borne}
-    return (
-        sorted(where.items()),
-        [sum(page // chip.pages == block for page in where.values()) for block in blocks],
-        [sum(page // chip.pages == block for page in stamps) for block in blocks],
-        [stamps.get(block * chip.pages, 0) for block in blocks],
-        max(stamps.values(), default=0) + 1,
-    )
-
-
-def drawn_chip(draw):
-    """A chip that lies well, with pages drawn by chance: no store need have laid them so."""
-    blocks = draw.randint(2, 5)
-    pages = draw.randint(1, 5)
-    chip = Chip(blocks, pages)
-    places = [block * pages + page for block in range(blocks) for page in range(draw.randint(0, pages))]
-    first = draw.choice([0, 10 ** 38])
-    stamps = [first + stamp for stamp in sorted(draw.sample(range(1, 100), len(places)))]
-    # The stamps rise within each block; otherwise the blocks are mingled.
-    rows = {block: [page for page in places if page // pages == block] for block in range(blocks)}
-    for stamp in stamps:
-        page = rows[draw.choice([block for block in rows if rows[block]])].pop(0)
-        name = draw.choice([ROLL] + list(range(6)) + [63])
-        value = draw.getrandbits(7) + (draw.getrandbits(1) << 63) if name == ROLL else draw.randrange(10 ** 30)
-        chip.put(page, (mark_of(stamp, name), value))
-    return chip
 
 
 class Books(unittest.TestCase):

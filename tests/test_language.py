@@ -46,6 +46,10 @@ def is_docstring(node):
     return isinstance(node, ast.Expr) and isinstance(node.value, ast.Constant) and isinstance(node.value.value, str)
 
 
+def is_written_join(func):
+    return isinstance(func, ast.Attribute) and func.attr == "join" and isinstance(func.value, ast.Constant)
+
+
 def names_in(tree):
     """Every name that a file binds, reads or asks an object for."""
     for node in ast.walk(tree):
@@ -150,12 +154,20 @@ class Language(unittest.TestCase):
             if own in ALLOWED_BUILTINS | ALLOWED_METHODS:
                 self.assertLessEqual({keyword.arg for keyword in node.keywords}, allowed.get(own, set()), where)
 
-    def test_what_is_walked_at_once_is_not_kept(self):
-        walked = ("zip", "enumerate", "reversed", "range", "items", "keys", "values")
-        for where, node in self.each_node((ast.Assign, ast.Return)):
-            if isinstance(node.value, ast.Call):
-                func = node.value.func
-                self.assertNotIn(getattr(func, "id", getattr(func, "attr", "")), walked, where)
+    def test_what_is_walked_is_walked_at_once(self):
+        takers = ("list", "tuple", "dict", "sorted", "sum", "any", "all", "enumerate", "zip")
+        fit = []
+        for where, node in self.each_node((ast.For, ast.comprehension, ast.Call)):
+            if not isinstance(node, ast.Call):
+                fit.append(node.iter)
+            elif getattr(node.func, "id", "") in takers or is_written_join(node.func):
+                fit += node.args[:1]
+            elif getattr(node.func, "id", "") in ("min", "max") and len(node.args) == 1:
+                fit += node.args
+        for where, node in self.each_node(ast.Call):
+            name = node.func.id if isinstance(node.func, ast.Name) else getattr(node.func, "attr", "")
+            if name in ("zip", "enumerate", "reversed", "range", "items", "keys", "values"):
+                self.assertIn(node, fit, where)
 
     def test_names_of_pythons_own(self):
         for where, node in self.each_node(ast.Name):
@@ -173,6 +185,41 @@ class Language(unittest.TestCase):
                 self.assertIsInstance(node, TOP_NODES, path.name)
             names = list(top_names(tree))
             self.assertEqual(len(names), len(set(names)), path.name)
+
+    def test_names_of_the_top_are_plain_values(self):
+        for path, tree in self.trees.items():
+            functions = {node.name for node in tree.body if isinstance(node, ast.FunctionDef)}
+            for node in tree.body:
+                if isinstance(node, ast.Assign):
+                    self.check_plain(node.value, functions, path.name)
+
+    def check_plain(self, node, functions, where):
+        """A plain value: a list or dict of the top holds none itself."""
+        if isinstance(node, (ast.List, ast.Tuple, ast.Dict)):
+            within = node.elts if not isinstance(node, ast.Dict) else node.keys + node.values
+            for inner in within:
+                self.assertNotIsInstance(inner, (ast.List, ast.Dict), where)
+                self.check_plain(inner, functions, where)
+        elif isinstance(node, ast.Name):
+            self.assertIn(node.id, functions, where)
+        else:
+            self.assertIsInstance(node, ast.Constant, where)
+
+    def test_lists_and_dicts_of_the_top_are_only_read(self):
+        for path, tree in self.trees.items():
+            kept = [node.targets[0].id for node in tree.body
+                    if isinstance(node, ast.Assign) and isinstance(node.value, (ast.List, ast.Dict))]
+            fit = []
+            for node in ast.walk(tree):
+                if isinstance(node, ast.Subscript) and isinstance(node.ctx, ast.Load):
+                    fit.append(node.value)
+                elif isinstance(node, ast.Compare):
+                    fit += node.comparators
+                elif isinstance(node, (ast.For, ast.comprehension)):
+                    fit.append(node.iter)
+            for node in ast.walk(tree):
+                if isinstance(node, ast.Name) and isinstance(node.ctx, ast.Load) and node.id in kept:
+                    self.assertIn(node, fit, path.name)
 
     def test_imports_come_from_the_very_file(self):
         for where, node in self.each_node(ast.ImportFrom):

@@ -2,8 +2,8 @@
 
 import unittest
 
-from tests.helper import arguments_of
-from wornpages.marks import ROLL, bits_of, mark_of, name_of, sheets_of, stamp_of
+from tests.helper import HUGE, NOT_WHOLE, arguments_of
+from wornpages.marks import ROLL, bits_of, is_sheet, mark_of, name_of, sheets_of, stamp_of
 
 STAMPS = [1, 2, 63, 64, 127, 128, 129, 10 ** 6, 2 ** 64, 10 ** 30 + 7, 10 ** 39, 10 ** 40 - 1]
 
@@ -27,6 +27,12 @@ class Marks(unittest.TestCase):
     def test_roll(self):
         self.assertEqual(ROLL, 64)
         self.assertIs(ROLL.__class__, int)
+
+    def test_sheets(self):
+        for sheet in range(64):
+            self.assertIs(is_sheet(sheet), True)
+        for thing in [-1, ROLL, 65, 127, HUGE, -HUGE] + NOT_WHOLE:
+            self.assertIs(is_sheet(thing), False)
 
     def test_arguments(self):
         self.assertEqual(arguments_of(mark_of), ["stamp", "name"])

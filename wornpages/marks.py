@@ -1,10 +1,17 @@
 """Marks tell a stamp and a name; bits tell which sheets are held."""
 
+from wornpages.words import is_within
+
 # The name of a page that is a roll: one above the last sheet that there may be.
 ROLL = 64
 
 # The least number of names that fits 0 to ROLL and is a power of two.
 NAMES = 128
+
+
+def is_sheet(thing):
+    """Whether a thing is a sheet that some store may have."""
+    return is_within(thing, 0, ROLL - 1)
 
 
 def mark_of(stamp, name):

@@ -10,6 +10,11 @@ def paper_of(why, options, block, moved, wiped):
     return (why, list(options), block, list(moved), wiped)
 
 
+def pages_moved(papers):
+    """How many pages were moved in the makings of room that gave these papers."""
+    return sum([len(paper[3]) for paper in papers])
+
+
 class Store(Plain):
     """A plain store that makes room by a rule where clear pages run short."""
 
